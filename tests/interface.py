@@ -1,0 +1,143 @@
+"""The interface of the modules that there are: each function with its arguments, their kinds and right values."""
+
+SUM = (6, (1, 2))
+REAL = (6, (3, 0))
+UNREAL = (6, (0, 1))
+ROW = (1, 0, -1, 0, 0, 0)
+NEXT_ROW = (0, 1, 0, -1, 0, 0)
+WIDE = (1, 0, -1, 0, 0, 0, 0, 0)
+WINDING = ((1, 0, 0, -1, 0, 0), (0, 0, 1, 0, 0, -1), (0, -1, 0, 0, 1, 0))
+COILS = ((0, 0, 3, 1), (1, 2, 5, 1))
+
+# Each function: the arguments in their order, as (name, kind, a right value).
+FUNCTIONS = {
+    "roots": {
+        "orders_polynomial": [("order", "order", 6)],
+        "is_sum": [("value", None, SUM)],
+        "sum_of": [("order", "order", 6), ("numbers", "numbers", (1, 2, 3))],
+        "added": [("number", "sum", SUM), ("other", "sum", REAL)],
+        "subtracted": [("number", "sum", SUM), ("other", "sum", REAL)],
+        "product": [("number", "sum", SUM), ("other", "sum", REAL)],
+        "conjugate": [("number", "sum", SUM)],
+        "times_root": [("number", "sum", SUM), ("power", "number", 4)],
+        "changed": [("number", "sum", SUM), ("power", "unit", 5)],
+        "led_up": [("number", "sum", SUM), ("order", "order", 12)],
+        "led_down": [("number", "sum", SUM), ("order", "order", 3)],
+        "is_real": [("number", "sum", SUM)],
+        "size_of": [("number", "sum", SUM)],
+        "sign_of": [("number", "sum", REAL)],
+        "compare_real": [("number", "sum", REAL), ("other", "sum", REAL)],
+        "compare_to": [("number", "sum", REAL), ("fraction", "fraction", (1, 2))],
+    },
+    "rows": {
+        "is_row": [("value", None, ROW)],
+        "is_phase": [("value", None, ROW)],
+        "is_winding": [("value", None, WINDING)],
+        "is_coil": [("value", None, COILS[0])],
+        "winding_of": [("coils", "coils", COILS), ("slots", "slots", 6), ("phases", "phases", 3)],
+        "some_coils": [("phase", "phase", ROW)],
+        "turned_row": [("row", "row", ROW), ("turn", "number", 2)],
+        "mirrored_row": [("row", "row", ROW)],
+        "added_rows": [("row", "row", ROW), ("other", "row", NEXT_ROW)],
+        "scaled_row": [("row", "row", ROW), ("many", "number", 2)],
+        "conductors_of": [("row", "row", ROW)],
+        "differences_of": [("row", "row", ROW)],
+    },
+    "harmonics": {
+        "order_of": [("slots", "slots", 6), ("harmonic", "number", 1)],
+        "takes_up": [("row", "row", ROW), ("harmonic", "number", 1)],
+        "is_there": [("row", "row", ROW), ("harmonic", "number", 1)],
+        "orders_there": [("row", "row", ROW)],
+        "orders_gone": [("row", "row", ROW)],
+        "size_at": [("row", "row", ROW), ("harmonic", "number", 1)],
+        "compare_sizes": [("row", "row", ROW), ("harmonic", "number", 1), ("other", "row", NEXT_ROW),
+                          ("twin", "number", 2)],
+        "same_sizes": [("row", "row", ROW), ("other", "row", NEXT_ROW)],
+        "parting_harmonic": [("row", "row", ROW), ("other", "row", NEXT_ROW)],
+        "parting_size": [("row", "row", ROW), ("other", "row", NEXT_ROW)],
+    },
+    "lattices": {
+        "lacks": [("row", "row", ROW), ("orders", "orders", (1, 2))],
+        "lacking_base": [("slots", "slots", 6), ("orders", "orders", (1, 2))],
+        "shares_of": [("row", "row", ROW), ("orders", "orders", (1, 2))],
+        "phase_with": [("slots", "slots", 6), ("harmonic", "number", 1), ("orders", "orders", (2,))],
+    },
+    "balance": {
+        "is_rate": [("value", None, (3, 1))],
+        "rate_at": [("winding", "winding", WINDING), ("harmonic", "number", 1)],
+        "is_balanced": [("winding", "winding", WINDING), ("harmonic", "number", 1), ("rate", "rate", (3, 1))],
+        "unbalancing_harmonic": [("winding", "winding", WINDING)],
+        "can_balance": [("slots", "slots", 6), ("phases", "phases", 3), ("harmonic", "number", 1),
+                        ("rate", "rate", (3, 1))],
+        "balanced_winding": [("slots", "slots", 6), ("phases", "phases", 3), ("harmonic", "number", 1),
+                             ("rate", "rate", (3, 1)), ("barred", "orders", (2,))],
+    },
+    "copies": {
+        "steps_of": [("winding", "winding", WINDING)],
+        "rate_of_step": [("slots", "slots", 6), ("harmonic", "number", 1), ("step", "step", (5, -1))],
+        "copied_winding": [("phase", "phase", ROW), ("phases", "phases", 3), ("step", "step", (2, 1))],
+        "is_full": [("winding", "winding", WINDING), ("conductors", "conductors", 1)],
+        "has_full": [("slots", "slots", 6), ("phases", "phases", 3), ("conductors", "conductors", 1),
+                     ("step", "step", (2, 1))],
+        "full_steps": [("slots", "slots", 6), ("phases", "phases", 3), ("conductors", "conductors", 1),
+                       ("harmonic", "number", 1), ("rate", "rate", (3, 1))],
+        "full_winding": [("slots", "slots", 6), ("phases", "phases", 3), ("conductors", "conductors", 1),
+                         ("harmonic", "number", 1), ("rate", "rate", (3, 1))],
+        "count_full": [("slots", "slots", 6), ("phases", "phases", 3), ("step", "step", (2, 1))],
+    },
+    "alike": {
+        "is_currents": [("value", None, "any")],
+        "are_alike": [("winding", "winding", WINDING), ("other", "winding", WINDING),
+                      ("currents", "currents", ("even", (3, 1)))],
+        "are_alike_at": [("winding", "winding", WINDING), ("other", "winding", WINDING),
+                         ("currents", "currents", "closed"), ("harmonic", "number", 1)],
+        "unlike_harmonic": [("winding", "winding", WINDING), ("other", "winding", WINDING),
+                            ("currents", "currents", "any")],
+        "parting_currents": [("winding", "winding", WINDING), ("other", "winding", WINDING),
+                             ("currents", "plain_currents", "any")],
+        "alike_turns": [("winding", "winding", WINDING), ("other", "winding", WINDING),
+                        ("currents", "currents", "any")],
+    },
+    "ways": {
+        "orders_for": [("slots", "slots", 6), ("first", "number", 1), ("every", "number", 2)],
+        "folded": [("row", "row", ROW), ("many", "divisor", 3)],
+        "folded_against": [("row", "row", ROW), ("many", "half_divisor", 3)],
+        "loud_orders": [("ways", "ways", WINDING)],
+        "is_quiet": [("ways", "ways", WINDING), ("orders", "orders", (2,))],
+        "shared_ways": [("groups", "groups", WINDING), ("sharing", "sharing", (0, 1, 0))],
+        "sharings": [("groups", "groups", WINDING), ("many", "ways_number", 2), ("orders", "orders", (2,))],
+        "most_ways": [("groups", "groups", WINDING), ("orders", "orders", (2,))],
+    },
+}
+
+# What is told with "last": module, function, arguments that are right by themselves, the error, and what it keeps.
+LAST = [
+    ("roots", "added", (SUM, (3, (1, 1))), "Unlike", (3, (1, 1))),
+    ("roots", "subtracted", (SUM, (3, (1, 1))), "Unlike", (3, (1, 1))),
+    ("roots", "product", (SUM, (12, (1, 1, 0, 0))), "Unlike", (12, (1, 1, 0, 0))),
+    ("roots", "led_up", (SUM, 9), "NoMultiple", 9),
+    ("roots", "led_up", (SUM, 3), "NoMultiple", 3),
+    ("roots", "led_down", (SUM, 4), "NoDivisor", 4),
+    ("roots", "led_down", (SUM, 12), "NoDivisor", 12),
+    ("roots", "sign_of", (UNREAL,), "NotReal", UNREAL),
+    ("roots", "compare_real", (REAL, (3, (1, 0))), "Unlike", (3, (1, 0))),
+    ("roots", "compare_real", (UNREAL, (3, (0, 1))), "NotReal", UNREAL),
+    ("roots", "compare_real", (REAL, (3, (0, 1))), "NotReal", (3, (0, 1))),
+    ("roots", "compare_to", (UNREAL, (1, 2)), "NotReal", UNREAL),
+    ("rows", "winding_of", (((0, 0, 3, 1), (3, 2, 5, 1)), 6, 3), "InvalidCoils", 1),
+    ("rows", "winding_of", (((0, 6, 3, 1), (3, 2, 5, 1)), 6, 3), "InvalidCoils", 0),
+    ("rows", "winding_of", (((0, 0, 3, 1), (0, 0, 1, 1), (0, 2, 59, 1)), 59, 3), "InvalidCoils", 2),
+    ("rows", "added_rows", (ROW, WIDE), "Unlike", WIDE),
+    ("harmonics", "compare_sizes", (ROW, 1, WIDE, 1), "Unlike", WIDE),
+    ("harmonics", "same_sizes", (ROW, WIDE), "Unlike", WIDE),
+    ("harmonics", "parting_harmonic", (ROW, WIDE), "Unlike", WIDE),
+    ("harmonics", "parting_size", (ROW, WIDE), "Unlike", WIDE),
+]
+for _other in ((WIDE,) * 3, WINDING[:2], (WIDE,) * 2):
+    LAST += [
+        ("alike", "are_alike", (WINDING, _other, "any"), "Unlike", _other),
+        ("alike", "are_alike_at", (WINDING, _other, ("even", (3, 1)), 1), "Unlike", _other),
+        ("alike", "unlike_harmonic", (WINDING, _other, "closed"), "Unlike", _other),
+        ("alike", "parting_currents", (WINDING, _other, "closed"), "Unlike", _other),
+        ("alike", "alike_turns", (WINDING, _other, "any"), "Unlike", _other),
+    ]
