@@ -29,6 +29,13 @@ def check_currents(currents):
         raise InvalidCurrents(currents)
 
 
+def _check_pair(winding, other, currents):
+    check_winding(winding)
+    check_winding(other)
+    check_currents(currents)
+    check_same_shape(winding, other)
+
+
 def _less(row, other):
     return added_rows(row, scaled_row(other, -1))
 
@@ -62,10 +69,7 @@ def _take_up_nothing(rows, rate, harmonic):
 
 def are_alike(winding, other, currents):
     """Whether both windings put the same into each slot, for all currents of the kind."""
-    check_winding(winding)
-    check_winding(other)
-    check_currents(currents)
-    check_same_shape(winding, other)
+    _check_pair(winding, other, currents)
     rows = _telling_rows(winding, other, currents)
     if _is_plain(currents):
         return not any(any(row) for row in rows)
@@ -90,10 +94,7 @@ def are_alike_at(winding, other, currents, harmonic):
 
 def unlike_harmonic(winding, other, currents):
     """The least harmonic from 1 on at which both windings are not alike; None if they are alike."""
-    check_winding(winding)
-    check_winding(other)
-    check_currents(currents)
-    check_same_shape(winding, other)
+    _check_pair(winding, other, currents)
     for harmonic in range(1, len(winding[0])):
         if not are_alike_at(winding, other, currents, harmonic):
             return harmonic
@@ -120,10 +121,7 @@ def parting_currents(winding, other, currents):
 
 def alike_turns(winding, other, currents):
     """The turns by which the other winding, all its phases turned, is alike to the first one."""
-    check_winding(winding)
-    check_winding(other)
-    check_currents(currents)
-    check_same_shape(winding, other)
+    _check_pair(winding, other, currents)
     turns = []
     for turn in range(len(winding[0])):
         turned = tuple(turned_row(phase, turn) for phase in other)

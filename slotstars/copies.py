@@ -136,16 +136,15 @@ def full_winding(slots, phases, conductors, harmonic, rate):
 
 def _signs_of_rounds(rounds, last_sign):
     """Ways to give each round a sign, or 0 for as many conductors coming as going: each harmonic is there with one."""
-    # Two ways differ by the sign of one round, or by those of two neighbours that are unlike: that takes up something
-    # of each harmonic, so that not both take up 0. A single round that adds up to 0 takes up something of each, too.
     if last_sign == -1:
-        signs = [1] * rounds
-        return signs, [-1] + signs[1:]
+        # The turn multiplies the harmonic by a root other than 1 then, so that rounds with one sign do not cancel.
+        return ([1] * rounds,)
     start = rounds % 2
     pairs = rounds // 2
     middle = [0] * start
     if pairs == 0:
         return (middle,)
+    # Both ways differ by the signs of two neighbours that are unlike, by something of each harmonic: not both are 0.
     return middle + [1, -1] * pairs, middle + [-1, 1] + [1, -1] * (pairs - 1)
 
 

@@ -4,7 +4,7 @@ from math import gcd
 
 from slotstars.polynomials import polynomial_of, reduced, remainder_by
 from slotstars.roots import compare_real, size_of
-from slotstars.rows import check_row, check_same_slots, check_slots, differences_of
+from slotstars.rows import check_row, check_same_slots, check_slots, check_two_rows, differences_of
 from slotstars.wholes import check_number, divisors_of
 
 
@@ -67,17 +67,13 @@ def compare_sizes(row, harmonic, other, twin):
 
 def same_sizes(row, other):
     """Whether the sizes of both rows are the same at all harmonics."""
-    check_row(row)
-    check_row(other)
-    check_same_slots(row, other)
+    check_two_rows(row, other)
     return differences_of(row) == differences_of(other)
 
 
 def parting_harmonic(row, other):
     """The least harmonic from 0 on at which both rows take up unlike sums; None if they are equal."""
-    check_row(row)
-    check_row(other)
-    check_same_slots(row, other)
+    check_two_rows(row, other)
     for harmonic in range(len(row)):
         if takes_up(row, harmonic) != takes_up(other, harmonic):
             return harmonic
@@ -86,9 +82,7 @@ def parting_harmonic(row, other):
 
 def parting_size(row, other):
     """The least harmonic from 0 on at which the sizes of both rows are unlike; None if there is none."""
-    check_row(row)
-    check_row(other)
-    check_same_slots(row, other)
+    check_two_rows(row, other)
     for harmonic in range(len(row)):
         if size_at(row, harmonic) != size_at(other, harmonic):
             return harmonic

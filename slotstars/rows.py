@@ -60,6 +60,13 @@ def check_same_slots(row, other):
         raise Unlike(other)
 
 
+def check_two_rows(row, other):
+    """Raises InvalidRow for what is no row, and Unlike for rows of unlike slots."""
+    check_row(row)
+    check_row(other)
+    check_same_slots(row, other)
+
+
 def check_winding(winding):
     """Raises InvalidWinding for what is no winding."""
     if not isinstance(winding, tuple) or len(winding) == 0:
@@ -137,9 +144,7 @@ def mirrored_row(row):
 
 def added_rows(row, other):
     """The sum of two rows."""
-    check_row(row)
-    check_row(other)
-    check_same_slots(row, other)
+    check_two_rows(row, other)
     return tuple(left + right for left, right in zip(row, other))
 
 
