@@ -130,14 +130,14 @@ def balanced_winding(slots, phases, harmonic, rate, barred=()):
     first = phase_with(slots, harmonic, barred)
     if first is None or not can_balance(slots, phases, harmonic, rate):
         return None
-    turn, sign = _turn_with(slots, harmonic, rate)
+    turn, sign = turn_with(slots, harmonic, rate)
     winding = [first]
     for _ in range(phases - 1):
         winding.append(scaled_row(turned_row(winding[-1], turn), sign))
     return tuple(winding)
 
 
-def _turn_with(slots, harmonic, rate):
+def turn_with(slots, harmonic, rate):
     """A turn and a sign that make the root of the rate of what is taken up of the harmonic; None if there are none."""
     for sign in (1, -1):
         for turn in range(slots):

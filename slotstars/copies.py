@@ -6,7 +6,7 @@ from slotstars.balance import check_rate, rate_of_turn
 from slotstars.errors import InvalidStep
 from slotstars.harmonics import is_there
 from slotstars.rows import check_phase, check_phases, check_slots, check_winding, scaled_row, turned_row
-from slotstars.wholes import are_wholes, check_number, check_within, is_within
+from slotstars.wholes import are_wholes, check_number, check_within, is_within, powered
 
 MOST_CONDUCTORS = 60
 
@@ -176,13 +176,5 @@ def count_full(slots, phases, step):
     if length % phases != 0:
         return 0
     if _last_sign(phases, step) == -1:
-        return _powered(2 * phases, rounds) if length // phases % 2 == 0 else 0
-    return _powered(phases, rounds) * comb(rounds, rounds // 2) if rounds % 2 == 0 else 0
-
-
-def _powered(number, times):
-    """The product of so many times the number."""
-    result = 1
-    for _ in range(times):
-        result *= number
-    return result
+        return powered(2 * phases, rounds) if length // phases % 2 == 0 else 0
+    return powered(phases, rounds) * comb(rounds, rounds // 2) if rounds % 2 == 0 else 0

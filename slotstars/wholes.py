@@ -1,5 +1,7 @@
 """Whole numbers: what counts as one, and how they divide."""
 
+from math import gcd
+
 from slotstars.errors import InvalidNumber
 
 
@@ -46,3 +48,17 @@ def primes_of(number):
         else:
             prime += 1
     return primes
+
+
+def powered(number, times):
+    """The product of so many times the number."""
+    result = 1
+    for _ in range(times):
+        result *= number
+    return result
+
+
+def lowest_terms(above, below):
+    """The fraction of two whole numbers, the lower one above 0, without a common divisor above 1."""
+    common = gcd(above, below)
+    return (above // common, below // common)

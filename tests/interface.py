@@ -8,6 +8,11 @@ NEXT_ROW = (0, 1, 0, -1, 0, 0)
 WIDE = (1, 0, -1, 0, 0, 0, 0, 0)
 WINDING = ((1, 0, 0, -1, 0, 0), (0, 0, 1, 0, 0, -1), (0, -1, 0, 0, 1, 0))
 COILS = ((0, 0, 3, 1), (1, 2, 5, 1))
+JOINING = ((0, 1), (2, -1), (0, 1))
+TEST = ((1, -1, 0), 1)
+FINDING = (TEST, ("from", (5, 1)))
+ROOM = ((1, 2, 1, 1, 0, 1), (1, 0, 1, 1, 1, 1))
+POINT = (2, -1)
 
 # Each function: the arguments in their order, as (name, kind, a right value).
 FUNCTIONS = {
@@ -108,6 +113,76 @@ FUNCTIONS = {
         "sharings": [("groups", "groups", WINDING), ("many", "ways_number", 2), ("orders", "orders", (2,))],
         "most_ways": [("groups", "groups", WINDING), ("orders", "orders", (2,))],
     },
+    "poles": {
+        "joined": [("groups", "six_groups", WINDING), ("phases", "phases", 3), ("joining", "joining", JOINING)],
+        "joinings_for": [("groups", "six_groups", WINDING), ("phases", "phases", 3), ("harmonic", "number", 1),
+                         ("rate", "rate", (3, 2))],
+        "orders_joined": [("groups", "six_groups", WINDING), ("phases", "phases", 3), ("root_order", "phases", 3)],
+        "nearest_joining": [("groups", "six_groups", WINDING), ("phases", "phases", 3), ("joining", "joining", JOINING),
+                            ("harmonic", "number", 1), ("rate", "rate", (3, 1))],
+    },
+    "wrongs": {
+        "wrongs_of": [("coils", "coils", COILS)],
+        "wrong_winding": [("coils", "coils", COILS), ("slots", "slots", 6), ("phases", "phases", 3),
+                          ("wrong", "wrong", ("swapped", 0, 1))],
+        "blind_pairs": [("coils", "coils", COILS), ("slots", "slots", 6), ("phases", "phases", 3)],
+    },
+    "readings": {
+        "is_test": [("value", None, TEST), ("phases", "phases", 3)],
+        "reading_of": [("winding", "winding", WINDING), ("test", "test", TEST)],
+        "parts": [("winding", "winding", WINDING), ("other", "winding", WINDING[::-1]), ("test", "test", TEST)],
+        "never_parted": [("winding", "winding", WINDING), ("other", "winding", WINDING[::-1])],
+        "is_found": [("winding", "winding", WINDING), ("finding", "finding", FINDING)],
+        "left_by": [("coils", "coils", COILS), ("slots", "slots", 6), ("phases", "phases", 3),
+                    ("findings", "findings", (FINDING,))],
+        "fewest_tests": [("coils", "coils", COILS), ("slots", "slots", 6), ("phases", "phases", 3),
+                         ("tests", "tests", (TEST, TEST))],
+    },
+    "stars": {
+        "star": [("slots", "slots", 6), ("harmonic", "number", 2)],
+        "is_choice": [("room", "room", ROOM), ("many", "positive", 2), ("phase", "phase", ROW)],
+        "gathered": [("room", "room", ROOM), ("many", "positive", 2), ("harmonic", "number", 1), ("sight", "sight", 3)],
+        "strongest": [("room", "room", ROOM), ("many", "positive", 2), ("harmonic", "number", 1)],
+        "greatest_size": [("room", "room", ROOM), ("many", "positive", 2), ("harmonic", "number", 1)],
+        "better_choice": [("room", "room", ROOM), ("many", "positive", 2), ("harmonic", "number", 1),
+                          ("phase", "phase", ROW)],
+        "wide_belts": [("slots", "slots", 6), ("harmonic", "number", 1), ("phases", "phases", 2)],
+        "narrow_belts": [("slots", "slots", 6), ("harmonic", "number", 1), ("phases", "narrow", 3)],
+    },
+    "spans": {
+        "span_phase": [("starts", "row", ROW), ("span", "span", 2)],
+        "lap": [("belts", "belts", WINDING), ("span", "span", 2)],
+        "span_kills": [("slots", "slots", 6), ("span", "span", 4)],
+        "spans_without": [("slots", "slots", 6), ("orders", "orders", (1, 2))],
+        "best_spans": [("slots", "slots", 6), ("harmonic", "number", 1), ("orders", "orders", (2,))],
+        "starts_of": [("phase", "phase", ROW), ("span", "span", 2)],
+        "is_fewest": [("starts", "row", ROW), ("span", "span", 3)],
+    },
+    "chains": {
+        "chain_row": [("slots", "slots", 6), ("chain", "chain", (("span", 2), ("belt", 2, 3)))],
+        "chain_kills": [("slots", "slots", 6), ("chain", "chain", (("span", 2), ("belt", 2, 3)))],
+        "chain_for": [("slots", "slots", 6), ("harmonic", "number", 1), ("orders", "orders", (2,))],
+    },
+    "ends": {
+        "distance": [("slots", "slots", 6), ("slot", "slot", 1), ("other", "slot", 5)],
+        "flow": [("phase", "phase", ROW)],
+        "levels": [("phase", "phase", ROW)],
+        "least_ends": [("phase", "phase", ROW)],
+        "short_coils": [("phase", "phase", ROW)],
+        "ends_of": [("coils", "coils", COILS), ("slots", "slots", 6)],
+        "are_shortest": [("coils", "coils", COILS), ("slots", "slots", 6)],
+    },
+    "points": {
+        "point_product": [("point", "point", POINT), ("other", "point", (0, 3))],
+        "turned_point": [("point", "point", POINT), ("sixths", "number", 5)],
+        "mirrored_point": [("point", "point", POINT)],
+        "norm_of": [("point", "point", POINT)],
+    },
+    "polygons": {
+        name: [("winding", "winding", WINDING)]
+        for name in ("slot_points", "corners", "polygon", "is_flat", "mean_square", "peak", "peak_teeth", "pulse",
+                     "sweep")
+    },
 }
 
 # What is told with "last": module, function, arguments that are right by themselves, the error, and what it keeps.
@@ -141,3 +216,49 @@ for _other in ((WIDE,) * 3, WINDING[:2], (WIDE,) * 2):
         ("alike", "parting_currents", (WINDING, _other, "closed"), "Unlike", _other),
         ("alike", "alike_turns", (WINDING, _other, "any"), "Unlike", _other),
     ]
+
+SIX = WINDING + WINDING
+NINE_COILS = tuple((k % 3, k % 6, (k + 1) % 6, 1) for k in range(9))
+UNFIT_COILS = NINE_COILS[:8] + ((0, 0, 6, 1),)
+SMALL_ROOM = ((1, 0, 1, 0, 0, 0), (1, 1, 1, 1, 1, 1))
+LAST += [
+    ("poles", "joinings_for", (SIX, 4, 1, (3, 1)), "TooMany", 8 ** 6),
+    ("poles", "joinings_for", (SIX[:5], 5, 1, (3, 1)), "TooMany", 10 ** 5),
+    ("poles", "orders_joined", (SIX, 6, 2), "TooMany", 12 ** 6),
+    ("poles", "nearest_joining", (SIX, 6, ((5, -1),) * 6, 1, (3, 1)), "TooMany", 12 ** 6),
+    ("wrongs", "wrongs_of", (NINE_COILS,), "TooMany", 9),
+    ("wrongs", "wrongs_of", (COILS * 30,), "TooMany", 60),
+    ("stars", "is_choice", (ROOM, 2, WIDE), "Unlike", WIDE),
+    ("stars", "gathered", (SMALL_ROOM, 3, 1, 0), "NoChoice", None),
+    ("stars", "gathered", (SMALL_ROOM[::-1], 3, 1, 0), "NoChoice", None),
+    ("stars", "gathered", (ROOM, 10 ** 40, 1, 0), "NoChoice", None),
+    ("stars", "strongest", (SMALL_ROOM, 3, 1), "NoChoice", None),
+    ("stars", "greatest_size", (SMALL_ROOM, 3, 0), "NoChoice", None),
+    ("stars", "better_choice", (SMALL_ROOM, 3, 1, WIDE), "Unlike", WIDE),
+    ("stars", "better_choice", (SMALL_ROOM, 3, 1, ROW), "NotAChoice", ROW),
+    ("stars", "better_choice", (ROOM, 2, 1, (-1, 1, 0, 0, 1, -1)), "NotAChoice", (-1, 1, 0, 0, 1, -1)),
+    ("stars", "wide_belts", (6, 1, 4), "NoBelts", None),
+    ("stars", "wide_belts", (6, 2, 6), "NoBelts", None),
+    ("stars", "wide_belts", (6, 0, 2), "NoBelts", None),
+    ("stars", "narrow_belts", (6, 3, 3), "NoBelts", None),
+    ("stars", "narrow_belts", (6, 1, 5), "NoBelts", None),
+    ("ends", "ends_of", (((0, 0, 3, 1), (5, 5, 6, 1)), 6), "InvalidCoils", 1),
+    ("ends", "are_shortest", (((0, 59, 3, 1), (5, 5, 6, 1)), 59), "InvalidCoils", 0),
+]
+for _coils, _error, _kept in ((NINE_COILS, "TooMany", 9), (UNFIT_COILS, "InvalidCoils", 8), (COILS * 9, "TooMany", 18),
+                              (((0, 0, 1, 1), (3, 0, 1, 1)), "InvalidCoils", 1)):
+    LAST += [
+        ("wrongs", "wrong_winding", (_coils, 6, 3, ("swapped", 0, 1)), _error, _kept),
+        ("wrongs", "wrong_winding", (_coils, 6, 3, ("out", len(_coils) - 1)), _error, _kept),
+        ("wrongs", "blind_pairs", (_coils, 6, 3), _error, _kept),
+        ("readings", "left_by", (_coils, 6, 3, (FINDING,)), _error, _kept),
+        ("readings", "fewest_tests", (_coils, 6, 3, (TEST,)), _error, _kept),
+    ]
+for _other in ((WIDE,) * 3, WINDING[:2], (WIDE,) * 2):
+    LAST += [
+        ("readings", "parts", (WINDING, _other, TEST), "Unlike", _other),
+        ("readings", "never_parted", (WINDING, _other), "Unlike", _other),
+    ]
+for _name in FUNCTIONS["polygons"]:
+    for _phases in (1, 2, 4, 5, 6):
+        LAST.append(("polygons", _name, (SIX[:_phases],), "NotThree", _phases))

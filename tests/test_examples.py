@@ -51,6 +51,51 @@ EXAMPLES = """
 [(1, 2, 3, 6), (2, 6), (12,), (4,), (4, 12), True, (1, 0, 0, -1, 0, 0), (2, 0, 0)]
 >>> [sharings(groups, 2, (1, 2, 3, 6)), sharings(groups, 2, (4, 12)), sharings(groups, 2, (2, 4)), most_ways(groups, (1, 2, 3, 6)), most_ways(groups, ()), shared_ways(groups, (0, 0, 1, 1))[0]]
 [((0, 1, 0, 1), (0, 1, 1, 0)), ((0, 0, 1, 1),), (), 2, 4, (1, 0, 0, -1, 0, 0, 1, 0, 0, -1, 0, 0)]
+>>> from slotstars.poles import joined, joinings_for, nearest_joining, orders_joined
+>>> [joinings_for(groups[:2], 1, 2, (1, 0)), joinings_for(groups[:2], 1, 1, (1, 0)), joined(six, 2, ((0, 1), (1, -1), (0, 1)))]
+[(((0, 1), (0, 1)),), (((0, 1), (0, -1)),), ((1, -1, 0, -1, 1, 0), (0, 0, -1, 0, 0, 1))]
+>>> [joinings_for(six, 3, 1, (3, 2)), nearest_joining(six, 3, ((0, 1), (1, 1), (2, 1)), 3, (2, 1)), [orders_joined(six, 3, k) for k in range(1, 7)]]
+[(((0, 1), (2, 1), (1, 1)), ((1, 1), (0, 1), (2, 1)), ((2, 1), (1, 1), (0, 1))), ((0, 1), (1, -1), (2, 1)), [(2,), (2,), (6,), (), (), (6,)]]
+>>> from slotstars.wrongs import blind_pairs, wrong_winding, wrongs_of
+>>> from slotstars.readings import fewest_tests, left_by, never_parted, parts, reading_of
+>>> coils = ((0, 0, 3, 1), (1, 2, 5, 1), (2, 4, 1, 1))
+>>> [wrongs_of(coils)[5:], wrong_winding(coils, 6, 3, ("out", 0))[0], wrong_winding(coils, 6, 3, ("swapped", 0, 1)) == (six[1], six[0], six[2]), blind_pairs(coils, 6, 3)]
+[(('out', 1), ('out', 2), ('swapped', 0, 1), ('swapped', 0, 2), ('swapped', 1, 2)), (0, 0, 0, 0, 0, 0), True, ((0, 7), (0, 8), (0, 9), (7, 8), (7, 9), (8, 9))]
+>>> [reading_of(six, ((1, 1, 0), 1)), reading_of(six, ((1, -1, 0), 1)), never_parted(six, (six[1], six[0], six[2])), parts(six, wrong_winding(coils, 6, 3, ("turned", 0)), ((1, 1, 0), 1))]
+[(6, (4, 0)), (6, (12, 0)), True, True]
+>>> [left_by(coils, 6, 3, ((((1, 1, 0), 1), ("from", (5, 1))),)), left_by(coils, 6, 3, ((((1, 0, 0), 1), ("dark",)),)), fewest_tests(coils, 6, 3, (((1, 1, 0), 1), ((1, 0, 1), 1), ((0, 1, 1), 1), ((1, 0, 0), 1)))]
+[(('turned', 0), ('turned', 1)), (('out', 0),), (0, 1, 3)]
+>>> from slotstars.stars import better_choice, gathered, greatest_size, is_choice, narrow_belts, star, strongest, wide_belts
+>>> [star(6, 2), star(6, 4), star(6, 0)]
+[((0, 3), (1, 4), (2, 5)), ((0, 3), (2, 5), (1, 4)), ((0, 1, 2, 3, 4, 5),)]
+>>> room, even = ((2, 0, 1, 0), (0, 1, 0, 2)), ((1, 1, 1, 1, 1, 1), (1, 1, 1, 1, 1, 1))
+>>> [gathered(room, 2, 1, 0), gathered(room, 2, 1, 2), strongest(room, 2, 1), greatest_size(room, 2, 1), better_choice(room, 2, 1, (1, 0, 1, -2)), better_choice(room, 2, 1, (2, 0, 0, -2)), is_choice(room, 2, (2, -2, 0, 0))]
+[(2, 0, 0, -2), (1, 0, 1, -2), (0, (2, 0, 0, -2)), (4, (8, 0)), (2, 0, 0, -2), None, False]
+>>> [strongest(even, 2, 1), greatest_size(even, 3, 1), greatest_size(even, 4, 5)]
+[(0, (1, 1, 0, -1, -1, 0)), (6, (16, 0)), (6, (12, 0))]
+>>> [narrow_belts(6, 1, 3), wide_belts(6, 2, 3), narrow_belts(9, 1, 3)[0]]
+[((1, 0, 0, -1, 0, 0), (0, 0, 1, 0, 0, -1), (0, -1, 0, 0, 1, 0)), ((1, 0, 0, 1, 0, 0), (0, 1, 0, 0, 1, 0), (0, 0, 1, 0, 0, 1)), (1, 1, 0, 0, 0, -1, 0, 0, 0)]
+>>> from slotstars.spans import best_spans, is_fewest, lap, span_kills, span_phase, spans_without, starts_of
+>>> from slotstars.chains import chain_for, chain_kills, chain_row
+>>> from slotstars.ends import are_shortest, distance, ends_of, flow, least_ends, levels, short_coils
+>>> [span_phase((1, 0, 0, 0, 0, 0), 2), lap(((1, 0, 0, 1, 0, 0), (0, 1, 0, 0, 1, 0)), 1), span_kills(6, 4), spans_without(12, (2, 3)), spans_without(12, (3, 4)), best_spans(12, 1, (4,)), best_spans(12, 2, (2,))]
+[(1, 0, -1, 0, 0, 0), ((1, -1, 0, 1, -1, 0), (0, 1, -1, 0, 1, -1)), (1, 2), (6,), (), (4, 8), (2, 4, 8, 10)]
+>>> [starts_of((1, 0, -1, 0, 0, 0), 2), starts_of((1, 0, 0, -1, 0, 0), 2), starts_of((1, 0, 0, -1, 0, 0), 1), is_fewest((2, 0, 1, 0, 0, 0), 2)]
+[(1, 0, 0, 0, 0, 0), None, (1, 1, 1, 0, 0, 0), False]
+>>> [chain_row(6, (("span", 2), ("belt", 2, 3))), chain_kills(6, (("span", 2), ("belt", 2, 3))), chain_for(6, 1, (2,)), chain_for(6, 3, (6,)), chain_for(6, 1, (6,))]
+[(1, 0, -1, 1, 0, -1), (1, 2, 6), (('span', 1), ('span', 2)), (('span', 1), ('belt', 3, 2)), None]
+>>> [distance(6, 1, 5), flow((2, -1, 0, 0, -1, 0)), levels((1, 0, 0, -1, 0, 0)), least_ends((2, -1, 0, 0, -1, 0)), ends_of(short_coils((1, 0, 0, 0, -1, 0)), 6), ends_of(((0, 0, 3, 1), (1, 4, 5, -2)), 6), are_shortest(((0, 0, 3, 1), (0, 1, 4, -1)), 6)]
+[2, (0, 2, 1, 1, 1, 0), (0, 1), 3, 2, 5, False]
+>>> from slotstars.points import mirrored_point, norm_of, point_product, turned_point
+>>> from slotstars.polygons import corners, is_flat, mean_square, peak, peak_teeth, polygon, pulse, slot_points, sweep
+>>> [point_product((1, 2), (3, -1)), turned_point((2, 1), 1), mirrored_point((2, 1)), norm_of((2, -1))]
+[(5, 7), (1, 2), (1, -1), 7]
+>>> full = ((1, 0, 0, -1, 0, 0), (0, 0, 1, 0, 0, -1), (0, -1, 0, 0, 1, 0))
+>>> short, lone = ((1, 0, -1, 0, 0, 0), (0, 0, 1, 0, -1, 0), (-1, 0, 0, 0, 1, 0)), ((1, -1, 0, 0), (0, 0, 0, 0), (0, 0, 0, 0))
+>>> [slot_points(short), corners(short), polygon(short), is_flat(short)]
+[((1, -1), (0, 0), (-2, -1), (0, 0), (1, 2), (0, 0)), ((0, 0), (1, -1), (1, -1), (-1, -2), (-1, -2), (0, 0)), ((0, 6), (6, 0), (6, 0), (-6, -6), (-6, -6), (0, 6)), False]
+>>> [mean_square(short), mean_square(lone), peak(lone), peak_teeth(lone), pulse(lone), pulse(short), sweep(full), sweep(short), sweep(lone)]
+[(1, 1), (3, 16), (9, 16), (1,), (12, 0), (0, 0), 216, 108, 0]
 """
 
 
@@ -60,7 +105,7 @@ class ExamplesTest(unittest.TestCase):
         runner = doctest.DocTestRunner(verbose=False)
         runner.run(told)
         self.assertEqual(runner.failures, 0)
-        self.assertEqual(runner.tries, 31)
+        self.assertEqual(runner.tries, 60)
 
 
 if __name__ == "__main__":
