@@ -208,6 +208,12 @@ class NearestTest(unittest.TestCase):
         self.assertGreater(some, 8)
         self.assertGreater(none, 20)
 
+    def test_none_with_a_pair_in_common(self):
+        told = ((1, 1), (0, 1))
+        near = poles.nearest_joining(SIX[:2], 2, told, 1, (3, 1))
+        self.assertIn(near, (((0, 1), (1, 1)), ((0, -1), (1, -1))))
+        self.assertEqual(unlike(near, told), 2)
+
     def test_the_told_one_if_it_is_balanced(self):
         told = ((2, -1), (1, -1), (0, -1))
         self.assertEqual(poles.nearest_joining(SIX, 3, told, 1, (3, 2)), told)
