@@ -1,4 +1,4 @@
-"""The interface of the modules that there are: each function with its arguments, their kinds and right values."""
+"""The interface of the modules: each function with its arguments, their kinds and right values."""
 
 SUM = (6, (1, 2))
 REAL = (6, (3, 0))
@@ -183,6 +183,82 @@ FUNCTIONS = {
         for name in ("slot_points", "corners", "polygon", "is_flat", "mean_square", "peak", "peak_teeth", "pulse",
                      "sweep")
     },
+    "waves": {
+        "wave": [("winding", "winding", WINDING), ("harmonic", "number", 1)],
+        "is_wave": [("winding", "winding", WINDING), ("harmonic", "number", 1)],
+        "waves": [("winding", "winding", WINDING)],
+        "compare_waves": [("winding", "winding", WINDING), ("harmonic", "wave_number", 1), ("other", "wave_number", -5)],
+        "strongest_waves": [("winding", "winding", WINDING)],
+        "is_leak_below": [("winding", "winding", WINDING), ("harmonic", "wave_number", 1),
+                          ("fraction", "fraction", (1, 10))],
+    },
+    "symmetries": {
+        "is_repeat": [("winding", "winding", WINDING), ("turn", "number", 1), ("sixths", "number", 5)],
+        "least_repeat": [("winding", "winding", WINDING)],
+        "class_of_waves": [("winding", "winding", WINDING)],
+        "mirrors": [("winding", "winding", WINDING)],
+    },
+    "moments": {
+        "currents_at": [("moment", "moment", 3)],
+        "field_at": [("winding", "winding", WINDING), ("moment", "moment", 3)],
+        "square_at": [("winding", "winding", WINDING), ("moment", "moment", 4)],
+    },
+    "forces": {
+        "standing_row": [("winding", "winding", WINDING)],
+        "beating_points": [("winding", "winding", WINDING)],
+        "has_standing": [("winding", "winding", WINDING), ("lobes", "number", 0)],
+        "has_beating": [("winding", "winding", WINDING), ("lobes", "number", 2)],
+        "standing_orders": [("winding", "winding", WINDING)],
+        "beating_classes": [("winding", "winding", WINDING)],
+        "beaten_into": [("winding", "winding", WINDING)],
+        "least_lobes": [("winding", "winding", WINDING)],
+        "pulls": [("winding", "winding", WINDING)],
+        "is_pulled_at": [("winding", "winding", WINDING), ("moment", "moment", 11)],
+    },
+    "rotors": {
+        "mixed_lobes": [("winding", "winding", WINDING), ("pairs", "pairs", 1)],
+        "mixed_pulls": [("winding", "winding", WINDING), ("pairs", "pairs", 60)],
+        "is_ripple": [("winding", "winding", WINDING), ("pairs", "pairs", 1), ("many", "from_nought", 3)],
+        "ripples": [("winding", "winding", WINDING), ("pairs", "pairs", 5)],
+        "least_ripple": [("winding", "winding", WINDING), ("pairs", "pairs", 1)],
+    },
+    "checker": {
+        "accepts": [("claim", None, ("there", ROW, 1)), ("paper", None, ())],
+    },
+    "certificates": {
+        "certify_harmonic": [("row", "row", ROW), ("harmonic", "number", 1)],
+        "certify_sizes": [("row", "row", ROW), ("harmonic", "number", 1), ("other", "row", NEXT_ROW),
+                          ("twin", "number", 2)],
+        "certify_same_sizes": [("row", "row", ROW), ("other", "row", NEXT_ROW)],
+        "certify_lacking": [("row", "row", ROW), ("orders", "orders", (1, 2))],
+        "certify_phase": [("slots", "slots", 6), ("harmonic", "number", 1), ("orders", "orders", (2,))],
+        "certify_balance": [("winding", "winding", WINDING), ("harmonic", "number", 1)],
+        "certify_always": [("winding", "winding", WINDING)],
+        "certify_balancing": [("slots", "slots", 6), ("phases", "phases", 3), ("harmonic", "number", 1),
+                              ("rate", "rate", (3, 1))],
+        "certify_step": [("winding", "winding", WINDING), ("step", "step", (5, -1))],
+        "certify_full": [("slots", "slots", 6), ("phases", "phases", 3), ("conductors", "conductors", 1),
+                         ("harmonic", "number", 1), ("rate", "rate", (3, 1))],
+        "certify_alike": [("winding", "winding", WINDING), ("other", "winding", WINDING),
+                          ("currents", "currents", ("even", (3, 1)))],
+        "certify_ways": [("ways", "ways", WINDING), ("orders", "orders", (2,))],
+        "certify_sharing": [("groups", "groups", WINDING), ("many", "ways_number", 2), ("orders", "orders", (2,))],
+        "certify_joining": [("groups", "six_groups", WINDING), ("phases", "phases", 3), ("harmonic", "number", 1),
+                            ("rate", "rate", (3, 2))],
+        "certify_parting": [("winding", "winding", WINDING), ("other", "winding", WINDING[::-1])],
+        "certify_choice": [("room", "room", ROOM), ("many", "positive", 2), ("harmonic", "number", 1),
+                           ("phase", "phase", ROW)],
+        "certify_span": [("phase", "phase", ROW), ("span", "span", 2)],
+        "certify_fewest": [("phase", "phase", ROW), ("span", "span", 2)],
+        "certify_ends": [("phase", "phase", ROW)],
+        "certify_wave": [("winding", "winding", WINDING), ("harmonic", "number", 1)],
+        "certify_classes": [("winding", "winding", WINDING), ("many", "positive", 6)],
+        "certify_leak": [("winding", "winding", WINDING), ("harmonic", "wave_number", 1),
+                         ("fraction", "fraction", (1, 10))],
+        "certify_repeat": [("winding", "winding", WINDING), ("turn", "number", 1), ("sixths", "number", 5)],
+        "certify_pull": [("winding", "winding", WINDING)],
+        "certify_ripple": [("winding", "winding", WINDING), ("pairs", "pairs", 1), ("many", "from_nought", 3)],
+    },
 }
 
 # What is told with "last": module, function, arguments that are right by themselves, the error, and what it keeps.
@@ -259,6 +335,28 @@ for _other in ((WIDE,) * 3, WINDING[:2], (WIDE,) * 2):
         ("readings", "parts", (WINDING, _other, TEST), "Unlike", _other),
         ("readings", "never_parted", (WINDING, _other), "Unlike", _other),
     ]
-for _name in FUNCTIONS["polygons"]:
+FOR_THREE = [(_module, _name) for _module in ("polygons", "waves", "symmetries", "moments", "forces", "rotors")
+             for _name in FUNCTIONS[_module] if _name != "currents_at"]
+FOR_THREE += [("certificates", "certify_" + _name) for _name in ("wave", "classes", "leak", "repeat", "pull", "ripple")]
+for _module, _name in FOR_THREE:
     for _phases in (1, 2, 4, 5, 6):
-        LAST.append(("polygons", _name, (SIX[:_phases],), "NotThree", _phases))
+        _values = (SIX[:_phases],) + tuple(_right for _, _, _right in FUNCTIONS[_module][_name][1:])
+        LAST.append((_module, _name, _values, "NotThree", _phases))
+FLAT = (ROW,) * 3
+TWO_PHASES, WIDE_PHASES = WINDING[:2], (WIDE,) * 3
+for _winding, _harmonic in ((FLAT, 1), (WINDING, 2), (WINDING, 6), (WINDING, -1), (WINDING, 6 * 10 ** 39)):
+    LAST.append(("waves", "is_leak_below", (_winding, _harmonic, (1, 10)), "NoWave", None))
+    LAST.append(("certificates", "certify_leak", (_winding, _harmonic, (1, 10)), "NoWave", None))
+LAST.append(("waves", "is_leak_below", (SIX[:2], 6, (1, 10)), "NotThree", 2))
+LAST += [
+    ("certificates", "certify_sizes", (ROW, 1, WIDE, 1), "Unlike", WIDE),
+    ("certificates", "certify_same_sizes", (ROW, WIDE), "Unlike", WIDE),
+    ("certificates", "certify_alike", (WINDING, TWO_PHASES, ("even", (3, 1))), "Unlike", TWO_PHASES),
+    ("certificates", "certify_alike", (WINDING, WIDE_PHASES, "any"), "Unlike", WIDE_PHASES),
+    ("certificates", "certify_parting", (WINDING, TWO_PHASES), "Unlike", TWO_PHASES),
+    ("certificates", "certify_joining", (SIX, 4, 1, (3, 1)), "TooMany", 8 ** 6),
+    ("certificates", "certify_choice", (SMALL_ROOM, 3, 1, WIDE), "Unlike", WIDE),
+    ("certificates", "certify_choice", (SMALL_ROOM, 3, 1, ROW), "NotAChoice", ROW),
+    ("certificates", "certify_fewest", (ROW, 3), "NoStarts", None),
+    ("certificates", "certify_fewest", ((1, 0, 0, -1, 0, 0), 2), "NoStarts", None),
+]

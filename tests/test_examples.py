@@ -1,4 +1,4 @@
-"""The examples of the document for the modules that there are, line for line."""
+"""The examples of the document, line for line."""
 
 import doctest
 import unittest
@@ -88,6 +88,9 @@ EXAMPLES = """
 [2, (0, 2, 1, 1, 1, 0), (0, 1), 3, 2, 5, False]
 >>> from slotstars.points import mirrored_point, norm_of, point_product, turned_point
 >>> from slotstars.polygons import corners, is_flat, mean_square, peak, peak_teeth, polygon, pulse, slot_points, sweep
+>>> from slotstars.waves import compare_waves, is_leak_below, strongest_waves, wave, waves
+>>> from slotstars.symmetries import class_of_waves, is_repeat, least_repeat, mirrors
+>>> from slotstars.moments import currents_at, field_at, square_at
 >>> [point_product((1, 2), (3, -1)), turned_point((2, 1), 1), mirrored_point((2, 1)), norm_of((2, -1))]
 [(5, 7), (1, 2), (1, -1), 7]
 >>> full = ((1, 0, 0, -1, 0, 0), (0, 0, 1, 0, 0, -1), (0, -1, 0, 0, 1, 0))
@@ -96,6 +99,22 @@ EXAMPLES = """
 [((1, -1), (0, 0), (-2, -1), (0, 0), (1, 2), (0, 0)), ((0, 0), (1, -1), (1, -1), (-1, -2), (-1, -2), (0, 0)), ((0, 6), (6, 0), (6, 0), (-6, -6), (-6, -6), (0, 6)), False]
 >>> [mean_square(short), mean_square(lone), peak(lone), peak_teeth(lone), pulse(lone), pulse(short), sweep(full), sweep(short), sweep(lone)]
 [(1, 1), (3, 16), (9, 16), (1,), (12, 0), (0, 0), 216, 108, 0]
+>>> [wave(short, 1), wave(lone, 1), waves(full), waves(short), waves(lone), strongest_waves(short), strongest_waves(lone), compare_waves(short, 1, -2)]
+[(6, (6, -3)), (12, (1, 0, 0, -1)), (1,), (1, 4), (1, 2, 3), (1,), (-1, 1), 1]
+>>> [is_leak_below(short, 1, (1, 2)), is_leak_below(short, 1, (2, 5)), is_leak_below(full, 1, (1, 10)), is_leak_below(full, -5, (26, 1))]
+[True, False, True, False]
+>>> [least_repeat(full), least_repeat(short), least_repeat(lone), class_of_waves(full), class_of_waves(short), class_of_waves(lone), is_repeat(short, -2, 2), mirrors(short), mirrors(lone)]
+[(1, 5), (2, 4), (4, 0), (6, 1), (3, 1), (1, 0), True, ((0, 5), (2, 3), (4, 1)), ((1, 3),)]
+>>> [currents_at(0), currents_at(3), field_at(short, 0), field_at(short, 1), square_at(short, 0), square_at(short, 1)]
+[(2, -1, -1), (0, 1, -1), (-6, 12, 12, -6, -6, -6), (-6, 6, 6, 0, 0, -6), 432, 144]
+>>> from slotstars.forces import beaten_into, beating_classes, has_beating, has_standing, is_pulled_at, least_lobes, pulls, standing_orders
+>>> from slotstars.rotors import is_ripple, least_ripple, mixed_lobes, mixed_pulls, ripples
+>>> [standing_orders(short), standing_orders(lone), beating_classes(short), beating_classes(full), beaten_into(short), least_lobes(short), least_lobes(full), pulls(short), pulls(full)]
+[(1,), (1, 2, 4), (2, 5), (2,), ((0, 3), (2, 5)), 1, 2, (False, True), (False, False)]
+>>> [has_beating(short, -1), has_beating(short, 1), has_standing(lone, 0), has_standing(lone, 4), is_pulled_at(short, 0), is_pulled_at(lone, 0), is_pulled_at(lone, 3), is_pulled_at(full, 2)]
+[True, False, True, False, True, True, False, False]
+>>> [mixed_lobes(full, 1), mixed_lobes(short, 1), mixed_pulls(short, 1), ripples(full, 1), least_ripple(full, 1), is_ripple(full, 1, 1), is_ripple(lone, 1, 1)]
+[(2, (0,)), (2, (0, 1)), True, (3, (0,)), 3, False, True]
 """
 
 
@@ -105,7 +124,7 @@ class ExamplesTest(unittest.TestCase):
         runner = doctest.DocTestRunner(verbose=False)
         runner.run(told)
         self.assertEqual(runner.failures, 0)
-        self.assertEqual(runner.tries, 60)
+        self.assertEqual(runner.tries, 72)
 
 
 if __name__ == "__main__":

@@ -81,6 +81,11 @@ def bound_names(function):
     return names
 
 
+def methods_of(node):
+    """The methods of a class, without its docstring."""
+    return [one for one in node.body if isinstance(one, ast.FunctionDef)]
+
+
 def is_docstring(node, parents):
     """Whether a string is the docstring of its file, class or function."""
     holder = parents.get(node)
@@ -117,7 +122,8 @@ class LanguageTest(unittest.TestCase):
             for function in functions_of(tree):
                 if function.end_lineno - function.lineno + 1 > 40:
                     self.tell("L10", name, function, function.name)
-                if function.decorator_list or function.returns is not None:
+                decorators = [getattr(one, "id", None) for one in function.decorator_list]
+                if decorators not in ([], ["property"]) or function.returns is not None:
                     self.tell("L4", name, function, function.name)
                 for value in function.args.defaults + function.args.kw_defaults:
                     if not isinstance(value, (ast.Constant, ast.Tuple)):
@@ -237,6 +243,8 @@ class LanguageTest(unittest.TestCase):
                     self.tell("L17", name, token.start[0], token.string)
 
     def test_calls(self):
+        own = {method.name for _, tree in TREES for node in tree.body if isinstance(node, ast.ClassDef)
+               for method in methods_of(node) if not method.name.startswith("__")}
         for name, tree in TREES:
             attributes = {node.attr for node in ast.walk(tree)
                           if isinstance(node, ast.Attribute) and isinstance(node.ctx, ast.Store)}
@@ -244,7 +252,7 @@ class LanguageTest(unittest.TestCase):
                 if not isinstance(node, ast.Call):
                     continue
                 if isinstance(node.func, ast.Attribute):
-                    if node.func.attr not in METHODS | attributes:
+                    if node.func.attr not in METHODS | attributes | own:
                         self.tell("L25", name, node, node.func.attr)
                     if node.keywords and node.func.attr in METHODS:
                         self.tell("L25", name, node, node.func.attr)
@@ -300,6 +308,61 @@ class LanguageTest(unittest.TestCase):
                 called = isinstance(home, ast.Call) and isinstance(home.func, ast.Name)
                 if not (called and home.func.id in ("sorted", "len") or isinstance(home, (ast.Compare, ast.Assign))):
                     self.tell("L24", name, node, "set")
+
+    def test_classes(self):
+        allowed = {"__init__", "__len__", "__bool__", "__contains__", "__enter__", "__exit__"}
+        stored = {node.attr for _, tree in TREES for node in ast.walk(tree)
+                  if isinstance(node, ast.Attribute) and isinstance(node.ctx, ast.Store)}
+        for name, tree in TREES:
+            for node in [one for one in tree.body if isinstance(one, ast.ClassDef)]:
+                methods = methods_of(node)
+                if len(node.body) != len(methods) + 1 or node.decorator_list or node.keywords:
+                    self.tell("L5", name, node, node.name)
+                for method in methods:
+                    if method.name in stored | METHODS:
+                        self.tell("L18", name, method, method.name)
+                    if method.name.startswith("__") and method.name not in allowed:
+                        self.tell("L5", name, method, method.name)
+                    if method.name == "__len__" and not re.fullmatch(r"return len\(self\.\w+\)",
+                                                                     ast.unparse(method.body[-1])):
+                        self.tell("L7", name, method, method.name)
+                    if method.name == "__exit__":
+                        self.look_at_exit(name, method)
+
+    def look_at_exit(self, name, method):
+        if [arg.arg for arg in method.args.args] != ["self", "kind", "value", "trace"]:
+            self.tell("L6", name, method, "arguments")
+        for node in ast.walk(ast.Module(body=method.body, type_ignores=[])):
+            plain = (ast.Module, ast.Assign, ast.If, ast.Compare, ast.Is, ast.IsNot, ast.Attribute, ast.Name,
+                     ast.Constant, ast.Load, ast.Store)
+            if not isinstance(node, plain) or isinstance(node, ast.Name) and node.id in ("value", "trace"):
+                self.tell("L6", name, node, node.__class__.__name__)
+
+    def test_only_own_errors_are_caught(self):
+        own = {node.name for name, tree in TREES if name == "errors.py" for node in tree.body
+               if isinstance(node, ast.ClassDef)}
+        for name, tree in TREES:
+            for node in ast.walk(tree):
+                if isinstance(node, ast.ExceptHandler):
+                    if not (isinstance(node.type, ast.Name) and node.type.id in own):
+                        self.tell("L19", name, node, "except")
+
+    def test_sorted_takes_lists(self):
+        # The package has operators: there, no generator stands in sorted.
+        for name, tree in TREES:
+            for node in ast.walk(tree):
+                if isinstance(node, ast.Call) and isinstance(node.func, ast.Name) and node.func.id == "sorted":
+                    if isinstance(node.args[0], ast.GeneratorExp):
+                        self.tell("L5", name, node, "sorted")
+
+    def test_tables_hold_own_functions(self):
+        for name, tree in TREES:
+            defined = {node.name for node in tree.body if isinstance(node, ast.FunctionDef)}
+            for node in tree.body:
+                if isinstance(node, ast.Assign):
+                    read = {part.id for part in ast.walk(node.value) if isinstance(part, ast.Name)}
+                    if read - defined or any(isinstance(part, ast.List) for part in ast.walk(node.value)):
+                        self.tell("L3", name, node, sorted(read - defined))
 
     def test_errors_are_made_on_the_spot(self):
         for name, tree in TREES:

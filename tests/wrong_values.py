@@ -148,6 +148,10 @@ KINDS = {
         PLAIN + (0, FULL, (FULL,), (FULL, FULL, FULL), [FULL, FULL], ((1,) * 60, (1,) * 59), ((1,) * 61, (1,) * 61))
         + tuple((FULL, space) for space in WRONG_SPACES) + tuple((space, FULL) for space in WRONG_SPACES),
     )),
+    "wave_number": (errors.InvalidNumber, given(WRONG_WHOLES + (0,))),
+    "from_nought": (errors.InvalidNumber, given(WRONG_WHOLES + (-1, -2, -HUGE))),
+    "moment": (errors.InvalidMoment, outside(0, 11)),
+    "pairs": (errors.InvalidPairs, outside(1, 60)),
     "positive": (errors.InvalidNumber, given(WRONG_WHOLES + (0, -1, -HUGE))),
     "sight": (errors.InvalidSight, outside(0, 11)),
     "narrow": (errors.InvalidNumber, given(WRONG_WHOLES + (0, 2, 4, 6, 7, -1, -3, HUGE))),
