@@ -12,7 +12,7 @@ from slotstars.harmonics import compare_sizes, has_order, is_there, parting_size
 from slotstars.lattices import phase_with, shares_of
 from slotstars.moments import MOMENTS
 from slotstars.poles import joinings_for
-from slotstars.polygons import check_three, check_three_phases
+from slotstars.polygons import check_three
 from slotstars.readings import never_parted, parts
 from slotstars.rotors import is_ripple
 from slotstars.rows import check_winding, conductors_of
@@ -213,7 +213,6 @@ def certify_repeat(winding, turn, sixths):
 
 def certify_pull(winding):
     """That the machine is pulled at some moment, or at none."""
-    check_three_phases(winding)
     pulled = [moment for moment in range(MOMENTS) if is_pulled_at(winding, moment)]
     if len(pulled) == 0:
         return (("no pull", winding), ())

@@ -1,7 +1,7 @@
 """Symmetries of the points of a winding: repeats, mirrors, and the class in which all its waves lie."""
 
 from slotstars.points import mirrored_point, turned_point
-from slotstars.polygons import check_three, check_three_phases, is_flat, slot_points
+from slotstars.polygons import check_three, is_flat, slot_points
 from slotstars.rows import check_winding
 from slotstars.wholes import check_number, divisors_of
 
@@ -28,7 +28,6 @@ def is_repeat(winding, turn, sixths):
 
 def least_repeat(winding):
     """The repeat with the least turn from 1 on; None if the winding is flat."""
-    check_three_phases(winding)
     if is_flat(winding):
         return None
     points = slot_points(winding)
@@ -51,7 +50,6 @@ def class_of_waves(winding):
 
 def mirrors(winding):
     """The ascending tuple of all mirrors."""
-    check_three_phases(winding)
     points = slot_points(winding)
     slots = len(points)
     mirrored = [mirrored_point(point) for point in points]

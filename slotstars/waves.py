@@ -2,7 +2,7 @@
 
 from slotstars.cosines import near_cosines, near_pi
 from slotstars.errors import InvalidNumber, NoWave
-from slotstars.polygons import check_three, check_three_phases, mean_square, slot_points
+from slotstars.polygons import check_three, mean_square, slot_points
 from slotstars.polynomials import reduced
 from slotstars.roots import check_fraction, compare_real, size_of
 from slotstars.rows import check_winding
@@ -48,7 +48,6 @@ def is_wave(winding, harmonic):
 
 def waves(winding):
     """The waves from 0 to Z - 1 that are there."""
-    check_three_phases(winding)
     return harmonics_in(slot_points(winding))
 
 
@@ -74,7 +73,6 @@ def _times(number, many):
 
 def strongest_waves(winding):
     """All whole numbers other than 0 for which no wave is stronger; none if the winding is flat."""
-    check_three_phases(winding)
     points = slot_points(winding)
     half = len(points) // 2
     strongest = []
@@ -101,8 +99,6 @@ def is_leak_below(winding, harmonic, fraction):
     if not is_wave(winding, harmonic):
         raise NoWave()
     above, below = fraction
-    if above + below <= 0:
-        return False
     # The leak is M / (|V|^2 / (4 pi^2 h^2)) - 1, with the mean square M.
     top, bottom = mean_square(winding)
     pi_factor = 4 * harmonic * harmonic * top * below

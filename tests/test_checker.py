@@ -39,7 +39,7 @@ RIGHT = [
     (("leak above", FULL, -5, (26, 1)), ()), (("repeat", FULL, 1, 5), ()), (("no repeat", FULL, 1, 4), ()),
     (("pull", SHORT), 0), (("no pull", FULL), ()), (("ripple", FULL, 1, 3), ()), (("no ripple", FULL, 1, 1), ()),
 ]
-PAPERS = PLAIN + (
+PAPERS = ((),) + PLAIN + (
     0, 1, 2, 3, 5, 6, -1, BIG, (0,), (1,), (0, 0), (0, 1), (1, 2), (1, 7), (1, 0, -1), (1, -1), FULL, SHORT, FULL[0], (FULL, (2, 1)),
     (0, 0, 0), (0, 1, 2), ((0, 1), (1, 1), (2, 1)), ((1, 0, 0), 1), ((0, 0, 1), -1), (1, 0, 0, 0, 0, 0), (0,) * 6, (1, 4), (4, -1),
     (((0, 0, 2, 1),), 0), (((0, 0, 1, 1),), 0), "there", ("there", ROW, 1), ((),), [()], (1, -1, 0, 0),
@@ -188,14 +188,14 @@ class PapersTest(unittest.TestCase):
 
     def test_waves_and_moments(self):
         self.assert_papers(("two waves", SHORT, 2), ((1, 4), (4, 1), (-2, 1), (10, 1), (1 + 6 * BIG, 4)), (
-            (1, 7), (1, 2), (2, 3), (1, 1), (4, 4), [1, 4], (1,), (1, 4, 7), (True, 4), (1, None), (), 1))
+            (1, 7), (1, 2), (2, 1), (3, 4), (2, 3), (1, 1), (4, 4), [1, 4], (1,), (1, 4, 7), (True, 4), (1, None), (), 1))
         self.assert_papers(("two waves", FULL, 4), ((1, 7), (7, 1), (1, -5)), ((1, 13), (1, 5), (1, 1), ()))
         self.assert_papers(("pull", LONE), (0, 1, 2, 4, 5, 6, 11), (3, 9, 12, -1, True, False, None, (0,), "0", ()))
 
 
 class OddClaimsTest(unittest.TestCase):
     def test_things_that_are_no_claims(self):
-        for claim in PLAIN + (0, (), ("there",), ("there", ROW), (None, ROW, 1), (Thing(), ROW, 1), ("There", ROW, 1), 7,
+        for claim in PLAIN + (([], ROW, 1), ({}, ROW, 1), (["there"], ROW, 1), 0, (), ("there",), ("there", ROW), (None, ROW, 1), (Thing(), ROW, 1), ("There", ROW, 1), 7,
                               (b"there", ROW, 1), ["there", ROW, 1], ("", ROW, 1), "there", (("there", ROW, 1),)):
             for paper in PAPERS:
                 self.assertIs(accepts(claim, paper), False)
@@ -270,6 +270,22 @@ class OddClaimsTest(unittest.TestCase):
         ):
             for paper in PAPERS:
                 self.assertIs(accepts(claim, paper), False, (claim, paper))
+
+    def test_no_claims_with_papers_that_would_be_right(self):
+        room = ((0, 1, 1, 1, 1, 1), (1, 1, 1, 1, 1, 1))
+        better = (0, 1, 1, 0, -1, -1)
+        self.assertIs(accepts(("better", room, 2, 1, (0, 1, 0, -1, 0, 0)), better), True)
+        self.assertIs(accepts(("better", room, 2, 1, (1, -1, 0, 0, 0, 0)), better), False)
+        joining = ((0, 1), (1, 1), (2, 1), (0, 1), (0, -1))
+        self.assertIs(accepts(("joins", FULL[:1] * 5, 3, 1, (1, 0)), joining), True)
+        self.assertIs(accepts(("joins", FULL[:1] * 5, 5, 1, (1, 0)), ((0, 1), (1, 1), (2, 1), (3, 1), (4, 1))), False)
+        self.assertIs(accepts(("joins", FULL[:1] * 6, 4, 1, (1, 0)), ((3, 1), *joining)), False)
+        self.assertIs(accepts(("shares", FULL[:1] * 8, 8, (6,)), tuple(range(8))), True)
+        self.assertIs(accepts(("shares", FULL[:1] * 9, 8, (6,)), (0, *range(8))), False)
+        self.assertIs(accepts(("two waves", SHORT * 2, 2), (1, 4)), False)
+        self.assertIs(accepts(("pull", SHORT * 2), 0), False)
+        self.assertIs(accepts(("full", 6, 3, 61, 1, (3, 1)), (tuple(tuple(61 * n for n in phase) for phase in FULL), (2, 1))), False)
+        self.assertIs(accepts(("full", 6, 3, 60, 1, (3, 1)), (tuple(tuple(60 * n for n in phase) for phase in FULL), (2, 1))), True)
 
     def test_great_numbers(self):
         great = (BIG, -BIG, 0)

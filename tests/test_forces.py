@@ -9,7 +9,9 @@ from math import gcd
 from makers import BIG, root
 from slotstars import forces, harmonics, moments, points, polygons, rows, waves
 from slotstars.errors import InvalidMoment, InvalidNumber, NotThree
-from some_windings import FULL, LONE, SHORT, alternating, belted, flat_windings, place, windings_that_are_not_flat
+from some_windings import (
+    FULL, LONE, SHORT, alternating, belted, flat_windings, place, windings_that_are_not_flat, with_few_waves,
+)
 
 
 def forces_at(winding, tau):
@@ -99,6 +101,11 @@ class ForcesTest(unittest.TestCase):
         self.assertIsNone(forces.least_lobes(((1, -1), (0, 0), (0, 0))))
         self.assertIsNone(forces.least_lobes(alternating(60)))
         self.assertEqual(forces.least_lobes(belted(24, 4)), 8)
+        few = with_few_waves()
+        self.assertEqual(waves.waves(few), (4, 5, 11))
+        self.assertEqual(forces.beaten_into(few), ((0, 1, 5, 6, 7, 11), (3, 4, 8, 9, 10)))
+        self.assertEqual(forces.least_lobes(few), 1)
+        self.assertEqual(forces.pulls(few), (True, False))
         self.assertLessEqual({None, 1, 2}, seen)
 
     def test_flat_windings(self):
@@ -146,7 +153,7 @@ class ForcesTest(unittest.TestCase):
                 self.assertGreaterEqual(len(pulled), 4)
             else:
                 self.assertEqual(pulled, [])
-        self.assertEqual(seen, {(False, False), (False, True), (True, True)})
+        self.assertEqual(seen, {(False, False), (False, True), (True, False), (True, True)})
 
     def test_moments_without_a_pull(self):
         # One phase alone carries nothing at the moment at which its current is 0.

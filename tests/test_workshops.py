@@ -32,7 +32,7 @@ BAD_WISHES = PLAIN + (
     0, (), ("there",), ("there", "a"), ("there", "a", 0), ("there", "a", 0, 1, 2), ["there", "a", 0, 1],
     ("There", "a", 0, 1), (b"there", "a", 0, 1), ("there", "a", 6, 1), ("there", "a", -1, 1), ("gone", "a", True, 1),
     ("gone", "a", 0, True), ("gone", "a", 0, None), ("gone", "a", None, 0), ("there", "a", "0", 1), ("is", "a", 0, 1),
-    ("gone", "a", 0, (1,)), ("gone", "a", 0), ("gone", "a", 0, 1, 1), (None, "a", 0, 1), (Thing(), "a", 0, 1),
+    ([], "a", 0, 1), ({}, "a", 0, 1), (["there"], "a", 0, 1), ("gone", "a", 0, (1,)), ("gone", "a", 0), ("gone", "a", 0, 1, 1), (None, "a", 0, 1), (Thing(), "a", 0, 1),
     (("there",), "a", 0, 1), ("balanced", "a", 1), ("balanced", "a", 1, (3, 1), 1), ("balanced", "a", True, (3, 1)),
     ("balanced", "a", "1", (3, 1)), ("step", "a"), ("step", "a", 1, 1), ("step", "a", (60, 1)), ("step", "a", (-1, 1)),
     ("step", "a", (0, 0)), ("step", "a", (0, 2)), ("step", "a", (True, 1)), ("step", "a", (1, True)), ("step", "a", 1),
